@@ -1,0 +1,152 @@
+"""Holds the package's files against those rules of LANGUAGE.md that can be seen in a single file."""
+import ast
+import builtins
+import pathlib
+import re
+import unittest
+
+PACKAGE = pathlib.Path(__file__).resolve().parent.parent / "farshelf"
+
+NODES = """
+Module FunctionDef ClassDef Return Assign AugAssign For While If Raise Try ImportFrom Expr Pass Break Continue
+BoolOp BinOp UnaryOp Lambda IfExp Dict Set ListComp Compare Call FormattedValue JoinedStr Constant Attribute
+Subscript Name List Tuple Slice Load Store And Or Add Sub Mult Mod Pow LShift RShift BitOr BitXor BitAnd FloorDiv
+Invert Not UAdd USub Eq NotEq Lt LtE Gt GtE Is IsNot In NotIn comprehension ExceptHandler arguments arg keyword alias
+""".split()
+
+OWN_NAMES = """
+len range enumerate zip min max sum abs sorted reversed int str bool list tuple dict set frozenset isinstance ord
+repr any all divmod Exception ValueError TypeError KeyError IndexError LookupError ZeroDivisionError ArithmeticError
+OverflowError RuntimeError NotImplementedError AttributeError StopIteration
+""".split()
+
+TWO_UNDERSCORES = "__init__ __eq__ __repr__ __str__ __len__".split()
+
+WORDS = """
+type typing typing_extensions enum Enum IntEnum StrEnum Flag IntFlag Generic Protocol ABC ABCMeta namedtuple
+NamedTuple TypedDict TYPE_CHECKING abstractmethod
+""".split()
+
+NOT_USED = """
+register mro elements open input version_info with_traceback add_note format format_map
+""".split()
+
+
+def text_faults(text):
+    faults = []
+    for place, line in enumerate(text.split("\n"), start=1):
+        if len(line) > 120:
+            faults.append(("L10", place))
+        if any(not " " <= sign <= "~" for sign in line):
+            faults.append(("L14", place))
+        if any(word in WORDS for word in re.findall(r"\w+", line)):
+            faults.append(("L17", place))
+        if re.search("dataclass|overload|contextmanager", line):
+            faults.append(("L17", place))
+    if len(text.splitlines()) > 400:
+        faults.append(("L10", 400))
+    return faults
+
+
+def plain(name):
+    return name in TWO_UNDERSCORES or re.fullmatch("[A-Za-z][A-Za-z0-9_]*", name) is not None
+
+
+def bound_and_read(node):
+    """The names that a node of the tree binds, and those that it reads."""
+    if isinstance(node, (ast.FunctionDef, ast.ClassDef)):
+        return [node.name], []
+    if isinstance(node, ast.arg):
+        return [node.arg], []
+    if isinstance(node, ast.alias):
+        return [node.asname or node.name], []
+    if isinstance(node, ast.ExceptHandler) and node.name:
+        return [node.name], []
+    if isinstance(node, ast.Name):
+        return ([], [node.id]) if isinstance(node.ctx, ast.Load) else ([node.id], [])
+    return [], []
+
+
+def node_faults(node):
+    if type(node).__name__ not in NODES:
+        return ["L6 L7"]
+    faults = []
+    if isinstance(node, ast.FunctionDef):
+        rest = node.args.vararg or node.args.kwarg or node.args.kwonlyargs or node.args.posonlyargs
+        if rest or node.decorator_list:
+            faults.append("L4")
+        if node.end_lineno - node.lineno >= 40:
+            faults.append("L10")
+    if isinstance(node, ast.ClassDef):
+        if node.decorator_list or node.keywords or len(node.bases) > 1:
+            faults.append("L5")
+        if not all(isinstance(part, (ast.FunctionDef, ast.Pass)) for part in node.body):
+            faults.append("L5")
+    if isinstance(node, ast.ImportFrom):
+        if node.level or not node.module.startswith("farshelf.") or node.names[0].name == "*":
+            faults.append("L2")
+    if isinstance(node, ast.Assign) and len(node.targets) != 1:
+        faults.append("L6")
+    if isinstance(node, (ast.For, ast.While)) and node.orelse or isinstance(node, ast.Try) and node.finalbody:
+        faults.append("L6")
+    if isinstance(node, ast.Constant) and isinstance(node.value, (float, complex, bytes)):
+        faults.append("L7")
+    if isinstance(node, ast.ListComp) and (len(node.generators) > 1 or len(node.generators[0].ifs) > 1):
+        faults.append("L7")
+    if isinstance(node, ast.Attribute) and (node.attr in NOT_USED or not plain(node.attr)):
+        faults.append("L17")
+    return faults
+
+
+def tree_faults(tree):
+    faults = []
+    bound = []
+    read = []
+    methods = [part for node in ast.walk(tree) if isinstance(node, ast.ClassDef) for part in node.body]
+    for node in ast.walk(tree):
+        place = getattr(node, "lineno", 0)
+        faults += [(rule, place) for rule in node_faults(node)]
+        made, asked = bound_and_read(node)
+        faults += [("L12", place) for name in made + asked if not plain(name)]
+        faults += [("L17", place) for name in made if name in NOT_USED]
+        faults += [("L15", place) for name in made if name in vars(builtins) and node not in methods]
+        bound += made
+        read += [(name, place) for name in asked]
+    faults += [("L8", place) for name, place in read if name not in bound + OWN_NAMES]
+    for node in tree.body:
+        if not isinstance(node, (ast.ImportFrom, ast.FunctionDef, ast.ClassDef, ast.Assign, ast.Expr)):
+            faults.append(("L3", node.lineno))
+        if isinstance(node, ast.Expr) and node != tree.body[0]:
+            faults.append(("L3", node.lineno))
+    return faults
+
+
+def faults_of(text):
+    return text_faults(text) + tree_faults(ast.parse(text))
+
+
+class Language(unittest.TestCase):
+    def test_files(self):
+        files = [file for file in PACKAGE.iterdir() if file.name != "__pycache__"]
+        self.assertIn("__init__.py", [file.name for file in files])
+        for file in files:
+            self.assertRegex(file.name, r"\A(__init__|[a-z][a-z0-9_]*)\.py\Z")
+
+    def test_each_file(self):
+        for file in sorted(PACKAGE.glob("*.py")):
+            with self.subTest(file=file.name):
+                self.assertEqual(faults_of(file.read_text(encoding="utf-8")), [])
+
+    def test_faults_are_found(self):
+        for text in ("x = 1.5\n", "def f():\n    with f: pass\n", "import re\n", "from re import sub\n",
+                     "def f(*xs):\n    return xs\n", "def f(x):\n    return x / 2\n", "x = y = 1\n",
+                     "def f(x):\n    return print(x)\n", "def f(list):\n    return list\n", "f_x = 1\n_x = 1\n",
+                     "# a \u00e4\n", "# the type\n", "x = 1\t\n", "x = 1" + " " * 120 + "\n", "x = 1\n" * 401,
+                     "class A:\n    x = 1\n", "def f():\n" + "    pass\n" * 40, "def f(x):\n    return x.format(1)\n",
+                     "def f(xs):\n    return all(x for x in xs)\n", "for x in (1, 2):\n    pass\n"):
+            with self.subTest(text=text):
+                self.assertNotEqual(faults_of(text), [])
+
+
+if __name__ == "__main__":
+    unittest.main()
