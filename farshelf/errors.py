@@ -1,19 +1,13 @@
 """The refusals of the program: each stands straight under ShelfError."""
 
-
-# A field must stay as it was when the error was made, whatever becomes of the list it was made from.
-def own_copy(value):
-    if isinstance(value, list):
-        return [own_copy(part) for part in value]
-    if isinstance(value, tuple):
-        return tuple([own_copy(part) for part in value])
-    return value
+from farshelf.copying import own_copy
 
 
 class ShelfError(ValueError):
     pass
 
 
+# A field must stay as it was when the error was made, whatever becomes of the list it was made from.
 class NoOrder(ShelfError):
     def __init__(self, fault):
         self.fault = own_copy(fault)

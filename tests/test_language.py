@@ -1,4 +1,4 @@
-"""Holds the package's files against those rules of LANGUAGE.md that can be seen in a single file."""
+"""Holds the package's files against a part of the rules of LANGUAGE.md."""
 import ast
 import builtins
 import pathlib
@@ -29,6 +29,12 @@ NamedTuple TypedDict TYPE_CHECKING abstractmethod
 
 NOT_USED = """
 register mro elements open input version_info with_traceback add_note format format_map
+""".split()
+
+METHODS = """
+append clear copy count endswith extend find get index insert isalnum isalpha isdigit islower isspace isupper items
+join keys ljust lower lstrip partition pop remove replace reverse rfind rjust rpartition rsplit rstrip setdefault
+split splitlines startswith strip update upper values zfill bit_length
 """.split()
 
 
@@ -125,6 +131,86 @@ def faults_of(text):
     return text_faults(text) + tree_faults(ast.parse(text))
 
 
+def top_names(tree):
+    names = [node.name for node in tree.body if isinstance(node, (ast.FunctionDef, ast.ClassDef))]
+    return names + [node.targets[0].id for node in tree.body if isinstance(node, ast.Assign)]
+
+
+def imports(tree):
+    return [(node.module, alias.name) for node in tree.body if isinstance(node, ast.ImportFrom) for alias in node.names]
+
+
+def drawn_from(trees, name):
+    """All the files from which one draws, in whatever many steps."""
+    found = []
+    ahead = [name]
+    while ahead:
+        for module, imported in imports(trees[ahead.pop()]):
+            if module not in found:
+                found.append(module)
+                ahead.append(module)
+    return found
+
+
+def import_faults(trees):
+    faults = []
+    for name, tree in trees.items():
+        for module, imported in imports(tree):
+            if module not in trees or imported not in top_names(trees[module]):
+                faults.append(("L16", name, imported))
+        if name in drawn_from(trees, name):
+            faults.append(("L16", name, name))
+    return faults
+
+
+def local_faults(name, tree):
+    """Parameters and locals called like a class or an import of their file."""
+    taken = [imported for module, imported in imports(tree)]
+    taken += [node.name for node in tree.body if isinstance(node, ast.ClassDef)]
+    bound = [node.arg for node in ast.walk(tree) if isinstance(node, ast.arg)]
+    bound += [node.id for node in ast.walk(tree) if isinstance(node, ast.Name) and isinstance(node.ctx, ast.Store)]
+    return [("L15", name, local) for local in bound if local in taken]
+
+
+def set_faults(name, tree):
+    """Sets that do not stand straight within sorted or len, or beside in or ==."""
+    good = []
+    for node in ast.walk(tree):
+        if isinstance(node, ast.Call) and isinstance(node.func, ast.Name) and node.func.id in ("sorted", "len"):
+            good += node.args
+        if isinstance(node, ast.Compare):
+            good += [node.left] + node.comparators
+    sets = [node for node in ast.walk(tree) if isinstance(node, ast.Call) and isinstance(node.func, ast.Name)
+            and node.func.id in ("set", "frozenset")]
+    return [("L24", name, node.lineno) for node in sets if node not in good]
+
+
+def member_faults(trees):
+    """Names that are a method in one class and a value in another, and calls of methods that are not listed."""
+    faults = []
+    walked = [node for tree in trees.values() for node in ast.walk(tree)]
+    methods = [part.name for node in walked if isinstance(node, ast.ClassDef) for part in node.body
+               if isinstance(part, ast.FunctionDef)]
+    called = [node.func.attr for node in walked if isinstance(node, ast.Call) and isinstance(node.func, ast.Attribute)]
+    values = [node.attr for node in walked if isinstance(node, ast.Attribute) and isinstance(node.ctx, ast.Store)]
+    faults += [("L18", name) for name in values if name in methods]
+    faults += [("L25", name) for name in called if name not in methods + METHODS]
+    own = [name for kind in (str, int, list, dict, set, bytes, tuple) for name in dir(kind)]
+    faults += [("L26", name) for name in values if name in own]
+    faults += [("L26", name) for name in methods if name in own and name not in METHODS + TWO_UNDERSCORES
+               + ["add", "discard"]]
+    return faults
+
+
+def package_faults(texts):
+    """texts: by the full name of each file what stands in it."""
+    trees = {name: ast.parse(text) for name, text in texts.items()}
+    faults = import_faults(trees) + member_faults(trees)
+    for name, tree in trees.items():
+        faults += local_faults(name, tree) + set_faults(name, tree)
+    return faults
+
+
 class Language(unittest.TestCase):
     def test_files(self):
         files = [file for file in PACKAGE.iterdir() if file.name != "__pycache__"]
@@ -136,6 +222,25 @@ class Language(unittest.TestCase):
         for file in sorted(PACKAGE.glob("*.py")):
             with self.subTest(file=file.name):
                 self.assertEqual(faults_of(file.read_text(encoding="utf-8")), [])
+
+    def test_all_together(self):
+        texts = {"farshelf." + file.stem: file.read_text(encoding="utf-8") for file in PACKAGE.glob("*.py")}
+        self.assertEqual(package_faults(texts), [])
+
+    def test_faults_of_the_whole_are_found(self):
+        one = "def f(x):\n    return x\n"
+        for texts in ({"farshelf.a": "from farshelf.b import f\n", "farshelf.b": "from farshelf.a import f\n"},
+                      {"farshelf.a": one, "farshelf.b": "from farshelf.a import f\n",
+                       "farshelf.c": "from farshelf.b import f\n"},
+                      {"farshelf.a": one, "farshelf.b": "from farshelf.a import f\ndef g(f):\n    return f\n"},
+                      {"farshelf.a": "class A:\n    def go(self):\n        self.gone = 1\n",
+                       "farshelf.b": "class B:\n    def gone(self):\n        return 1\n"},
+                      {"farshelf.a": "def f(xs):\n    xs.sort()\n"},
+                      {"farshelf.a": "class A:\n    def go(self):\n        self.sort = 1\n"},
+                      {"farshelf.a": "def f(xs):\n    return set(xs)\n"}):
+            with self.subTest(texts=texts):
+                self.assertNotEqual(package_faults(texts), [])
+        self.assertEqual(package_faults({"farshelf.a": one, "farshelf.b": "from farshelf.a import f\n"}), [])
 
     def test_faults_are_found(self):
         for text in ("x = 1.5\n", "def f():\n    with f: pass\n", "import re\n", "from re import sub\n",
