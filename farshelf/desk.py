@@ -2,7 +2,7 @@
 
 from farshelf.copying import own_copy
 from farshelf.errors import Ring
-from farshelf.joining import joined
+from farshelf.joining import files_shut, joined
 from farshelf.locks import Locks
 from farshelf.paths import done_by_paths
 from farshelf.shelf import Shelf, done, is_node, node_at, refusal, row_of
@@ -193,7 +193,7 @@ def new_stamp(desk, hand, file):
 def files_named(request):
     if request[0] == "shut":
         return [request[1]]
-    return [deed[1] for deed in request[1] if deed[0] == "shut"]
+    return files_shut(request[1])
 
 
 # The keeps of other hands for which these asks wait.

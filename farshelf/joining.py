@@ -4,6 +4,10 @@ from farshelf.clash import clash_name
 from farshelf.shelf import CLASH, done, make_file
 
 
+def files_shut(deeds):
+    return [deed[1] for deed in deeds if deed[0] == "shut"]
+
+
 # refused: the files of which an earlier shut was refused, so that a later one would build on what isn't there.
 def first_answer(shelf, deed, refused):
     if deed[0] == "make":

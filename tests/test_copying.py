@@ -1,6 +1,6 @@
 import unittest
 
-from farshelf.copying import own_copy
+from farshelf.copying import is_fixed, own_copy
 
 
 class Copies(unittest.TestCase):
@@ -18,6 +18,25 @@ class Copies(unittest.TestCase):
         copied[1][1][0].append(9)
         copied.append(9)
         self.assertEqual(value, [[1], ([2], [[3]])])
+
+    def test_dicts(self):
+        value = ({"k": [1]}, [{"m": {"n": [2]}}])
+        copied = own_copy(value)
+        self.assertEqual(copied, value)
+        copied[0]["k"].append(9)
+        copied[1][0]["m"]["n"].append(9)
+        copied[0]["new"] = 1
+        self.assertEqual(value, ({"k": [1]}, [{"m": {"n": [2]}}]))
+
+
+class Fixed(unittest.TestCase):
+    def test_fixed(self):
+        for value in (0, "", None, True, (), (1, "a"), (1, (2, ("x", ())))):
+            self.assertIs(is_fixed(value), True)
+
+    def test_not_fixed(self):
+        for value in ([], {}, ([],), (1, (2, ([],))), (1, {})):
+            self.assertIs(is_fixed(value), False)
 
 
 if __name__ == "__main__":
