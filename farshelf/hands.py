@@ -3,7 +3,7 @@
 from farshelf.copying import own_copy
 from farshelf.errors import Busy, NoSession, NotAlone
 from farshelf.joining import files_shut
-from farshelf.locks import Locks, hold, let_go, meet
+from farshelf.locks import Locks, hold, let_go
 
 
 class Hand:
@@ -124,12 +124,11 @@ def let_go_by_asking(hand, request):
             lose_stamp(hand, file)
 
 
-# What is held to write there is held to read alone.
+# What is held there, to write too, is held to read alone.
 def hold_to_read(hand, file, low, high):
     rows = list(hand.locks.stretches.get(file, []))
     for row in rows:
-        if row[2] == "write" and meet(row[0], row[1], low, high):
-            hold(hand.locks, file, (max(row[0], low), min(row[1], high), "read", hand.number))
+        hold(hand.locks, file, (max(row[0], low), min(row[1], high), "read", hand.number))
 
 
 def take_told(hand, request, told):

@@ -356,6 +356,14 @@ class Copies(HandsCase):
         self.answer(("shut", 1, 9))
         self.copied((2, 1, "b", 0))
 
+    def test_the_least_stamp(self):
+        self.opens(2, 0, "a", 1)
+        self.copied((2, 0, "a", 1))
+        self.hand.call(3, 1)
+        self.opens(3, 0, "a", 1)
+        self.opens(4, 0, "a", 2)
+        self.copied((2, 0, "a", 1), (3, 0, "a", 0), (4, 0, "a", 2))
+
     def test_calls_heard_stay_heard(self):
         self.hand.call(2, 6)
         self.ask(("look",), ("ended",))

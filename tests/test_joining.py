@@ -2,7 +2,7 @@ import copy
 import unittest
 
 from farshelf.clash import clash_name
-from farshelf.joining import joined
+from farshelf.joining import files_shut, joined
 from farshelf.shelf import Shelf, done, node_at, paths_of, rows_of
 
 LETTERS = "abcdefghijklmnopqrstuvwxyz"
@@ -57,6 +57,13 @@ class Done(JoiningCase):
         self.tells([("make", 0, "n", "x"), ("shut", 5, 0, "y"), ("make", 0, "n", "z"), ("shut", 5, 1, "w")],
                    [("made", 5), ("put", 1), ("clash", 6, "there"), ("put", 2)])
         self.assertEqual(self.file(5) + self.file(6), [("file", 5, 2, "w"), ("file", 6, 0, "z")])
+
+
+class FilesShut(unittest.TestCase):
+    def test_of_the_shuts_alone(self):
+        self.assertEqual(files_shut(()), [])
+        self.assertEqual(files_shut((("shut", 3, 2, "a"), ("make", 9, "n", "b"), ("shut", 4, 0, ""), ("shut", 3, 3, "c"))),
+                         [3, 4, 3])
 
 
 class Clashes(JoiningCase):

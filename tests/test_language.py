@@ -202,12 +202,77 @@ def member_faults(trees):
     return faults
 
 
+WALKED = "zip enumerate reversed range".split()
+WALKED_METHODS = "items keys values".split()
+WALKERS = "list tuple dict sorted sum any all enumerate zip min max".split()
+KEYWORDS = {"sorted": ("key", "reverse"), "min": ("key", "default"), "max": ("key", "default"), "sum": ("start",),
+            "enumerate": ("start",), "zip": ("strict",)}
+
+
+def is_call_of(node, names):
+    return isinstance(node, ast.Call) and isinstance(node.func, ast.Name) and node.func.id in names
+
+
+def is_walked_view(node):
+    if is_call_of(node, WALKED):
+        return True
+    return isinstance(node, ast.Call) and isinstance(node.func, ast.Attribute) and node.func.attr in WALKED_METHODS
+
+
+def walk_faults(name, tree):
+    """Views that are kept or handed on, and loops that change what they walk by its plain name."""
+    good = []
+    faults = []
+    for node in ast.walk(tree):
+        if isinstance(node, (ast.For, ast.comprehension)):
+            good.append(node.iter)
+        if is_call_of(node, WALKERS):
+            good += node.args[:1] if node.func.id != "zip" else node.args
+        if isinstance(node, ast.For):
+            walked = ast.unparse(node.iter)
+            changes = [part for part in ast.walk(node) if isinstance(part, ast.Call)
+                       and isinstance(part.func, ast.Attribute) and ast.unparse(part.func.value) == walked
+                       and part.func.attr in "append clear extend insert pop remove reverse setdefault update".split()]
+            faults += [("L23", name, part.lineno) for part in changes]
+    return faults + [("L23", name, node.lineno) for node in ast.walk(tree) if is_walked_view(node) and node not in good]
+
+
+def form_faults(name, tree):
+    """f-strings of more than plain names, is beside other things, keywords, handlers, top values that are handed on."""
+    faults = []
+    tops = [node.targets[0].id for node in tree.body
+            if isinstance(node, ast.Assign) and isinstance(node.value, (ast.List, ast.Dict))]
+    good = []
+    for node in ast.walk(tree):
+        if isinstance(node, ast.FormattedValue) and (not isinstance(node.value, ast.Name) or node.format_spec):
+            faults.append(("L7", name, node.lineno))
+        if isinstance(node, ast.Compare) and any(isinstance(op, (ast.Is, ast.IsNot)) for op in node.ops):
+            if not isinstance(node.comparators[0], ast.Constant) or node.comparators[0].value not in (None, True, False):
+                faults.append(("L20", name, node.lineno))
+        if isinstance(node, ast.Call) and node.keywords:
+            allowed = KEYWORDS.get(node.func.id, ()) if isinstance(node.func, ast.Name) else ()
+            faults += [("L22", name, node.lineno) for keyword in node.keywords if keyword.arg not in allowed]
+        if isinstance(node, ast.ExceptHandler):
+            if node.type is None or ast.unparse(node.type) in ("Exception", "TypeError", "AttributeError"):
+                faults.append(("L19", name, node.lineno))
+        if isinstance(node, ast.Subscript):
+            good.append(node.value)
+        if isinstance(node, (ast.For, ast.comprehension)):
+            good.append(node.iter)
+        if isinstance(node, ast.Compare):
+            good += node.comparators
+        if is_call_of(node, ("len", "list", "dict")):
+            good += node.args
+    read = [node for node in ast.walk(tree) if isinstance(node, ast.Name) and isinstance(node.ctx, ast.Load)]
+    return faults + [("L15", name, node.lineno) for node in read if node.id in tops and node not in good]
+
+
 def package_faults(texts):
     """texts: by the full name of each file what stands in it."""
     trees = {name: ast.parse(text) for name, text in texts.items()}
     faults = import_faults(trees) + member_faults(trees)
     for name, tree in trees.items():
-        faults += local_faults(name, tree) + set_faults(name, tree)
+        faults += local_faults(name, tree) + set_faults(name, tree) + walk_faults(name, tree) + form_faults(name, tree)
     return faults
 
 
@@ -237,7 +302,16 @@ class Language(unittest.TestCase):
                        "farshelf.b": "class B:\n    def gone(self):\n        return 1\n"},
                       {"farshelf.a": "def f(xs):\n    xs.sort()\n"},
                       {"farshelf.a": "class A:\n    def go(self):\n        self.sort = 1\n"},
-                      {"farshelf.a": "def f(xs):\n    return set(xs)\n"}):
+                      {"farshelf.a": "def f(xs):\n    return set(xs)\n"},
+                      {"farshelf.a": "def f(xs):\n    ys = xs.items()\n    return list(ys)\n"},
+                      {"farshelf.a": "def f(xs):\n    return enumerate(xs)\n"},
+                      {"farshelf.a": "def f(xs):\n    for x in xs:\n        xs.pop(x)\n"},
+                      {"farshelf.a": "def f(x):\n    return f\"{x.y}\"\n"},
+                      {"farshelf.a": "def f(x, y):\n    return x is y\n"},
+                      {"farshelf.a": "def f(x):\n    return x.split(sep=1)\n"},
+                      {"farshelf.a": "def f(x):\n    try:\n        return x[0]\n    except Exception:\n        return x\n"},
+                      {"farshelf.a": "X = [1]\ndef f():\n    return X\n"},
+                      {"farshelf.a": "X = {1: 2}\ndef f(g):\n    return g(X)\n"}):
             with self.subTest(texts=texts):
                 self.assertNotEqual(package_faults(texts), [])
         self.assertEqual(package_faults({"farshelf.a": one, "farshelf.b": "from farshelf.a import f\n"}), [])

@@ -338,6 +338,18 @@ class HearKept(MastersCase):
         master.hear(("kept", 2, 0, 6, 3))
         self.assertEqual(master.done, 3)
 
+    def test_sizes_of_an_earlier_term_are_gone(self):
+        master = self.lead(0, 5, [A, B])
+        master.hear(("kept", 1, 0, 5, 2))
+        master.rise()
+        for other in (3, 4):
+            master.hear(("voice", other, 0, 10, 0, ()))
+        self.is_now(master, 10, 10, [A, B], 0, "leads")
+        master.hear(("kept", 2, 0, 10, 2))
+        self.assertEqual(master.done, 0)
+        master.hear(("kept", 1, 0, 10, 1))
+        self.assertEqual(master.done, 1)
+
     def test_it_never_falls(self):
         master = self.follow(3, [A, B], 2)
         master.rise()
