@@ -66,6 +66,10 @@ class WorldCase(unittest.TestCase):
         self.step("rest", 10000)
         self.way()
 
+    def lose_all(self):
+        while self.world.way:
+            self.step("lose", 0)
+
     def lead(self, m=0):
         self.step("rise", m)
         self.clear()
@@ -439,6 +443,16 @@ class Calls(WorldCase):
         self.step("ask", 1, 0, ("shut", 2, 0, "two"))
         self.steps((("carry", 0), ("heard",)))
 
+    def wait_at_master_2(self):
+        """Of three masters 2 leads, and hand 1's shut waits for what hand 0 keeps by the stamp 5."""
+        self.make(3, 2)
+        self.lead(2)
+        self.begin(0, 1, m=2)
+        self.ask(0, ("make", "/f", ""), 2)
+        self.ask(0, ("open", "/f"), 2)
+        self.step("ask", 1, 2, ("shut", 2, 0, "two"))
+        self.step("rest", 5)
+
     def test_call_and_back(self):
         self.way(("call", 0, 0, 2, 5))
         self.steps((("see", 0, 2), ("seen", (0, "one"))), (("copy", 0), ("heard",)), (("see", 0, 2), ("seen", None)))
@@ -455,20 +469,12 @@ class Calls(WorldCase):
         self.steps((("send", 0), ("sent", 0)))
 
     def test_one_that_does_not_lead_calls_nobody(self):
-        self.make(3, 2)
-        self.lead(2)
-        self.begin(0, 1, m=2)
-        self.ask(0, ("make", "/f", ""), 2)
-        self.ask(0, ("open", "/f"), 2)
-        self.step("ask", 1, 2, ("shut", 2, 0, "two"))
-        self.step("rest", 5)
-        while self.world.way:
-            self.step("lose", 0)
+        self.wait_at_master_2()
+        self.lose_all()
         for times in range(2):
             self.step("send", 2)
             self.steps((("rest", 2), ("rested", 2)))
-            while self.world.way:
-                self.step("lose", 0)
+            self.lose_all()
         for desk in self.world.desks:
             self.assertEqual(calls_due(desk), [(0, 2, 5)])
         self.steps((("send", 0), ("sent", 0)), (("send", 1), ("sent", 0)))
@@ -487,34 +493,21 @@ class Calls(WorldCase):
         self.way()
 
     def test_back_goes_to_the_master_that_called(self):
-        self.make(3, 2)
-        self.lead(2)
-        self.begin(0, 1, m=2)
-        self.ask(0, ("make", "/f", ""), 2)
-        self.ask(0, ("open", "/f"), 2)
-        self.step("ask", 1, 2, ("shut", 2, 0, "two"))
-        self.step("rest", 5)
+        self.wait_at_master_2()
         calls = [place for place, message in enumerate(self.world.way) if message[0] == "call"]
         self.assertEqual(self.world.way[calls[0]][:3], ("call", 2, 0))
         self.step("carry", calls[0])
         self.assertEqual(self.world.way[-1], ("back", 0, 2, 1, 2, 5))
 
     def test_sent_counts_messages_and_calls(self):
-        self.make(3, 2)
-        self.lead(2)
-        self.begin(0, 1, m=2)
-        self.ask(0, ("make", "/f", ""), 2)
-        self.ask(0, ("open", "/f"), 2)
-        self.step("ask", 1, 2, ("shut", 2, 0, "two"))
-        self.step("rest", 5)
-        while self.world.way:
-            self.step("lose", 0)
+        self.wait_at_master_2()
+        self.lose_all()
         self.steps((("send", 2), ("sent", 3)))
         self.assertEqual([message[0] for message in self.world.way], ["keep", "keep", "call"])
 
     def test_answers_of_time(self):
         # The hand that keeps the file ends by time, and the shut is done in that row.
-        self.clear_way()
+        self.lose_all()
         self.step("pass", 50, [50, 50, 50])
         self.step("again", 1, 0)
         self.step("carry", 0)
@@ -522,10 +515,6 @@ class Calls(WorldCase):
         self.step("pass", 50, [50, 50, 50])
         self.steps((("time", 0), ("sent", 1)))
         self.way(("answer", 0, 1, 1, 1, ("shut", 1, 8)))
-
-    def clear_way(self):
-        while self.world.way:
-            self.step("lose", 0)
 
 
 class Written(WorldCase):
@@ -567,8 +556,7 @@ class Written(WorldCase):
         self.step("carry", 0)
         self.way(*[("keep", 0, m, 3, (("lead", 0, 0), ("ask", 0, 0, 1, 0, ("begin",))), 1) for m in (1, 2)])
         self.steps((("carry", 0), ("heard",)), (("carry", 0), ("heard",)))
-        while self.world.way:
-            self.step("lose", 0)
+        self.lose_all()
         self.step("fall", 0)
         self.assertEqual([desk.place for desk in self.world.desks], [0, 1, 1])
         self.step("rise", 1)
@@ -588,8 +576,7 @@ class Written(WorldCase):
         self.step("begin", 0, 0)
         self.step("carry", 0)
         self.steps((("carry", 0), ("heard",)), (("carry", 0), ("heard",)))
-        while self.world.way:
-            self.step("lose", 0)
+        self.lose_all()
         self.step("rise", 0)
         self.clear()
         self.assertEqual([row[0] for row in self.world.masters[0].log], ["lead", "ask", "lead"])
@@ -631,8 +618,7 @@ class Written(WorldCase):
         self.begin(0, 1)
         self.step("ask", 0, 0, ("make", "/old", ""))
         self.step("carry", 0)
-        while self.world.way:
-            self.step("lose", 0)
+        self.lose_all()
         self.step("rise", 1)
         self.steps((("lose", 0), ("lost",)))
         self.clear()
